@@ -633,9 +633,10 @@ func insFor(source *rand.Rand, l impl.Nest) [][]int {
 
 // A nestMaker makes nests that are NestOk, in which much can be fused, and much
 // nearly; way has for each buffer the loops of the kernel that stored in it
-// first.
+// first, which are one of shapes.
 type nestMaker struct {
 	source *rand.Rand
+	shapes [][]int
 	l      impl.Nest
 	given  []bool
 	ways   [][]int
@@ -643,7 +644,12 @@ type nestMaker struct {
 
 // randomNest is a nest that is NestOk, of small buffers.
 func randomNest(source *rand.Rand) impl.Nest {
-	m := &nestMaker{source: source}
+	return nestOver(source, [][]int{{}, {2}, {3}, {4}, {2, 3}, {2, 3}, {3, 2}, {2, 2}, {2, 2}, {1, 3}, {3, 1}, {1}, {2, 1, 2}, {2, 2, 2}, {1, 1, 2}, {2, 3, 2}})
+}
+
+// nestOver is a nest that is NestOk, with loops of these shapes.
+func nestOver(source *rand.Rand, shapes [][]int) impl.Nest {
+	m := &nestMaker{source: source, shapes: shapes}
 	for range 1 + source.Intn(3) {
 		loops := m.loops()
 		b := m.buffer(loops)
@@ -673,10 +679,7 @@ func randomNest(source *rand.Rand) impl.Nest {
 	return m.l
 }
 
-func (m *nestMaker) loops() []int {
-	all := [][]int{{}, {2}, {3}, {4}, {2, 3}, {2, 3}, {3, 2}, {2, 2}, {2, 2}, {1, 3}, {3, 1}, {1}, {2, 1, 2}, {2, 2, 2}, {1, 1, 2}, {2, 3, 2}}
-	return slices.Clone(all[m.source.Intn(len(all))])
-}
+func (m *nestMaker) loops() []int { return slices.Clone(m.shapes[m.source.Intn(len(m.shapes))]) }
 
 // buffer puts a buffer that has a number for each index of the loops.
 func (m *nestMaker) buffer(loops []int) int {
