@@ -2156,6 +2156,8 @@ func addMark(v reflect.Value) {
 	switch v.Kind() {
 	case reflect.Int:
 		v.SetInt(91)
+	case reflect.Uint8:
+		v.SetUint(91)
 	case reflect.Struct:
 		for at := range v.NumField() {
 			addMark(v.Field(at))
