@@ -4,6 +4,7 @@ import (
 	"fmt"
 	"math"
 	"math/big"
+	"math/bits"
 	"math/rand"
 	"runtime"
 	"slices"
@@ -85,8 +86,8 @@ func copiedRounds(rounds [][]impl.Move) [][]impl.Move {
 // sendsIn counts all Moves.
 func sendsIn(rounds [][]impl.Move) int { return len(slices.Concat(rounds...)) }
 
-// wantMovesOk says what the document says of MovesOk. A worker may send to
-// itself: From and To are workers then, too.
+// wantMovesOk says what the document says of MovesOk: From and To are two
+// workers, so none sends to itself.
 func wantMovesOk(rounds [][]impl.Move, n int, c int) bool {
 	if !allIn(1, testWorkers, n, c) || len(rounds) > testRounds || sendsIn(rounds) > testMoves {
 		return false
@@ -95,7 +96,7 @@ func wantMovesOk(rounds [][]impl.Move, n int, c int) bool {
 		gets := map[[2]int]int{}
 		for _, m := range round {
 			gets[[2]int{m.To, m.Chunk}]++
-			if !allIn(0, n-1, m.From, m.To) || !allIn(0, c-1, m.Chunk) || gets[[2]int{m.To, m.Chunk}] > 1 {
+			if !allIn(0, n-1, m.From, m.To) || m.From == m.To || !allIn(0, c-1, m.Chunk) || gets[[2]int{m.To, m.Chunk}] > 1 {
 				return false
 			}
 		}
@@ -130,12 +131,15 @@ func checkMovesOk(t *testing.T, rounds [][]impl.Move, n int, c int) bool {
 }
 
 func TestMovesOkOfCounts(t *testing.T) {
-	rounds := roundsIn("0>0+0 |  | 0>0=0")
+	rounds := roundsIn("0>1+0 |  | 1>0=0")
 	for _, x := range slices.Concat(around(1, testWorkers), ints(-1, 0, 3, 1<<32+1, 1<<32), testInts()) {
-		within := allIn(1, testWorkers, x)
 		for _, r := range [][][]impl.Move{nil, {}, {{}}, {nil}, {nil, nil}, rounds} {
-			if checkMovesOk(t, r, x, 1) != within || checkMovesOk(t, r, 1, x) != within || checkMovesOk(t, r, x, x) != within || checkMovesOk(t, r, x, 5) != within || checkMovesOk(t, r, 5, x) != within {
-				t.Errorf("MovesOk of %s with %d", roundsText(r), x)
+			for _, sizes := range rowsOf(ints(x, 1), ints(1, x), ints(x, x), ints(x, 5), ints(5, x), ints(2, x)) {
+				// One worker alone has nobody to send to.
+				within := allIn(1, testWorkers, sizes...) && (sendsIn(r) == 0 || sizes[0] > 1)
+				if checkMovesOk(t, r, sizes[0], sizes[1]) != within {
+					t.Errorf("MovesOk of %s with %v is not %v", roundsText(r), sizes, within)
+				}
 			}
 			for _, other := range ints(0, 65, -1, math.MinInt, math.MaxInt) {
 				if checkMovesOk(t, r, x, other) || checkMovesOk(t, r, other, x) {
@@ -201,7 +205,7 @@ func TestMovesOkOfParts(t *testing.T) {
 	change := []func(m *impl.Move, x int){
 		func(m *impl.Move, x int) { m.From = x }, func(m *impl.Move, x int) { m.To = x }, func(m *impl.Move, x int) { m.Chunk = x },
 	}
-	for _, sizes := range rowsOf(ints(1, 1), ints(3, 5), ints(5, 3), ints(64, 1), ints(1, 64), ints(64, 64), ints(63, 2)) {
+	for _, sizes := range rowsOf(ints(1, 1), ints(2, 1), ints(3, 5), ints(5, 3), ints(64, 1), ints(1, 64), ints(64, 64), ints(63, 2)) {
 		n, c := sizes[0], sizes[1]
 		for part, set := range change {
 			last := ints(n-1, n-1, c-1)[part]
@@ -211,7 +215,7 @@ func TestMovesOkOfParts(t *testing.T) {
 					set(&m, x)
 					plain := sendOf(n-1, 0, c-1, !add)
 					for _, rounds := range [][][]impl.Move{{{m}}, {{}, {m}}, {{m}, {plain}}, {{plain}, {plain}, {m}}} {
-						if checkMovesOk(t, rounds, n, c) != allIn(0, last, x) {
+						if checkMovesOk(t, rounds, n, c) != (allIn(0, last, x) && m.From != m.To) {
 							t.Errorf("MovesOk of %s for %d workers, %d chunks", roundsText(rounds), n, c)
 						}
 					}
@@ -230,14 +234,15 @@ func TestMovesOkRows(t *testing.T) {
 	}{
 		{"", 1, 1, true}, {"|", 1, 1, true}, {"1>0+0", 2, 1, true}, {"1>0=0", 2, 1, true}, {"1>0+0", 1, 1, false}, {"0>1+0", 1, 1, false}, {"0>1+1", 2, 1, false}, {"0>1+1", 2, 2, true},
 		// From a worker to itself.
-		{"0>0+0", 1, 1, true}, {"0>0=0", 1, 1, true}, {"2>2+1", 3, 2, true}, {"0>0+0 1>1+0 2>2=0", 3, 1, true}, {"3>3+0", 3, 1, false},
+		{"0>0+0", 1, 1, false}, {"0>0=0", 1, 1, false}, {"0>0+0", 2, 1, false}, {"0>0=0", 2, 1, false}, {"1>1=0", 2, 1, false}, {"2>2+1", 3, 2, false}, {"63>63+63", 64, 64, false}, {"0>0+0 1>1+0 2>2=0", 3, 1, false}, {"3>3+0", 3, 1, false}, {"0>3+0", 4, 1, true},
+		{"0>0+0 0>1+0", 3, 1, false}, {"0>1+0 2>2=0", 3, 1, false}, {"0>1+0 1>1=1 1>0+0", 3, 2, false}, {"0>0+0 | 1>0+0", 3, 1, false}, {"0>1+0 | 0>1+0 1>2+0 | 2>2+0", 3, 1, false}, {"0>1+0 | | 1>1=0 | 1>0+0", 3, 1, false},
 		// To gets one chunk twice.
 		{"1>0+0 2>0+0", 3, 1, false}, {"1>0+0 2>0=0", 3, 1, false}, {"1>0=0 2>0=0", 3, 1, false}, {"1>0=0 2>0+0", 3, 1, false}, {"1>0+0 1>0+0", 3, 1, false}, {"1>0+0 1>0=0", 3, 1, false},
 		{"1>0+0 0>0+0", 3, 1, false}, {"0>0+0 1>0=0", 3, 1, false}, {"0>0+0 0>0+0", 3, 1, false}, {"0>0=0 0>0=0", 1, 1, false}, {"0>1+0 1>2+0 2>0+0 1>0+0", 3, 1, false},
 		{"2>0+1 1>0+0 0>2+1 0>2+0 1>2=1", 3, 2, false}, {"2>63+63 1>63+63", 64, 64, false}, {"| 2>63+63 1>63=63 |", 64, 64, false},
 		// The same To and chunk in two rounds; the same To with two chunks; the same chunk to two.
 		{"1>0+0 | 2>0+0", 3, 1, true}, {"1>0+0 | 1>0+0", 3, 1, true}, {"1>0+0 1>0+1", 3, 2, true}, {"1>0+0 2>0+1", 3, 2, true}, {"1>0+0 1>2+0", 3, 1, true}, {"1>0+0 0>1+0", 3, 1, true}, {"1>0=0 0>1=0", 2, 1, true},
-		{"0>1+1 0>0+1 0>1+0 0>0+0", 2, 2, true}, {"1>0+0 1>0+1 1>0+2 1>0+3", 2, 4, true}, {"1>0+0 1>0+1 1>0+2 1>0+1", 2, 4, false}, {"0>1+0 0>10+0 0>0+1 0>0+10", 11, 11, true},
+		{"0>1+1 1>0+1 0>1+0 1>0+0", 2, 2, true}, {"1>0+0 1>0+1 1>0+2 1>0+3", 2, 4, true}, {"1>0+0 1>0+1 1>0+2 1>0+1", 2, 4, false}, {"0>1+0 0>10+0 1>0+1 1>0+10", 11, 11, true},
 		// What is wrong stands first, last, or in an empty place between.
 		{"3>0+0 | 1>0+0 | 2>0+0", 3, 1, false}, {"1>0+0 | 2>0+0 | 0>3+0", 3, 1, false}, {"1>0+0 | | 2>0+1", 3, 1, false}, {"-1>0+0", 2, 1, false}, {"0>-1+0", 2, 1, false}, {"0>1+-1", 2, 1, false},
 	} {
@@ -247,8 +252,8 @@ func TestMovesOkRows(t *testing.T) {
 	}
 }
 
-// randomRounds can be run by n workers with c chunks; some workers send to
-// themselves, some rounds are empty.
+// randomRounds can be run by n workers with c chunks; some rounds are empty,
+// those of one worker all.
 func randomRounds(source *rand.Rand, n int, c int, count int) [][]impl.Move {
 	rounds := [][]impl.Move{}
 	for range count {
@@ -257,12 +262,20 @@ func randomRounds(source *rand.Rand, n int, c int, count int) [][]impl.Move {
 		if source.Intn(6) == 0 {
 			most = n * c
 		}
+		if n == 1 {
+			most = 0
+		}
 		for _, place := range places[:min(most, source.Intn(20))] {
-			round = append(round, sendOf(source.Intn(n), place/c, place%c, source.Intn(3) > 0))
+			round = append(round, sendOf(otherThan(source, place/c, n), place/c, place%c, source.Intn(3) > 0))
 		}
 		rounds = append(rounds, round)
 	}
 	return rounds
+}
+
+// otherThan picks one of n workers, of which the given one is not asked for.
+func otherThan(source *rand.Rand, worker int, n int) int {
+	return among(worker+1+source.Intn(n-1), n)
 }
 
 // spoiltRounds are changed in one place or another.
@@ -277,7 +290,7 @@ func spoiltRounds(source *rand.Rand, rounds [][]impl.Move, n int, c int) [][]imp
 	}
 	place := source.Intn(len(made[at]))
 	m := &made[at][place]
-	switch source.Intn(7) {
+	switch source.Intn(8) {
 	case 0:
 		m.From = source.Intn(n+2) - 1
 	case 1:
@@ -290,6 +303,8 @@ func spoiltRounds(source *rand.Rand, rounds [][]impl.Move, n int, c int) [][]imp
 		made[at] = append(made[at], *m)
 	case 5:
 		made[at] = slices.Delete(made[at], place, place+1)
+	case 6:
+		m.From = m.To
 	default:
 		made = slices.Insert(made, source.Intn(len(made)+1), []impl.Move{*m})
 	}
@@ -316,6 +331,52 @@ func TestMovesOkAtRandom(t *testing.T) {
 	}
 	if good < 1000 || wrong < 1000 {
 		t.Errorf("%d can be, %d can't", good, wrong)
+	}
+}
+
+// checkMoveToItself puts a Move from a worker to itself in the place of what
+// else came there, in each round and behind all: nothing comes of it, and it is
+// all that is wrong.
+func checkMoveToItself(t *testing.T, rounds [][]impl.Move, n int, c int, worker int, chunk int) {
+	t.Helper()
+	if !checkMovesOk(t, rounds, n, c) {
+		t.Fatalf("%.300s can't be", roundsText(rounds))
+	}
+	for number, round := range append(copiedRounds(rounds), nil) {
+		for _, place := range ints(0, len(round)/2, len(round)) {
+			for _, add := range []bool{true, false} {
+				made := append(copiedRounds(rounds), nil)
+				made[number] = slices.DeleteFunc(made[number], func(m impl.Move) bool { return m.To == worker && m.Chunk == chunk })
+				made[number] = slices.Insert(made[number], min(place, len(made[number])), sendOf(worker, worker, chunk, add))
+				if checkMovesOk(t, made, n, c) {
+					t.Fatalf("%.300s for %d workers and %d chunks is MovesOk", roundsText(made), n, c)
+				}
+			}
+		}
+	}
+}
+
+// P45: From and To are two workers.
+func TestMovesFromAWorkerToItself(t *testing.T) {
+	for _, add := range []bool{true, false} {
+		for _, sizes := range rowsOf(ints(1, 1), ints(1, 64), ints(2, 1), ints(2, 3), ints(3, 2), ints(64, 1), ints(64, 64)) {
+			n, c := sizes[0], sizes[1]
+			for worker := range n {
+				for _, chunk := range ints(0, c/2, c-1) {
+					if checkMovesOk(t, [][]impl.Move{{sendOf(worker, worker, chunk, add)}}, n, c) {
+						t.Errorf("of %d workers %d may send chunk %d of %d to itself", n, worker, chunk, c)
+					}
+				}
+			}
+		}
+	}
+	for n := 1; n <= 6; n++ {
+		for worker := range n {
+			checkMoveToItself(t, [][]impl.Move{}, n, 1, worker, 0)
+			checkMoveToItself(t, impl.Ring(n), n, n, worker, among(worker+1, n))
+			checkMoveToItself(t, impl.Tree(n), n, 1, worker, 0)
+			checkMoveToItself(t, impl.Nodes(n, 2), n, 1, worker, 0)
+		}
 	}
 }
 
@@ -615,12 +676,17 @@ func TestRunMovesRows(t *testing.T) {
 		{"0>1+0 | 1>2+0", 1, rowsOf(ints(1), ints(10), ints(100)), rowsOf(ints(1), ints(11), ints(111))},
 		{"1>0=0 0>1+0", 1, rowsOf(ints(1), ints(10)), rowsOf(ints(10), ints(11))},
 		{"0>1+0 0>2+0 1>0+0", 1, rowsOf(ints(1), ints(10), ints(100)), rowsOf(ints(11), ints(11), ints(101))},
+		// Two double what they have.
+		{"0>1+0 1>0+0 | 0>1+0 1>0+0 | 0>1+0 1>0+0", 1, rowsOf(ints(1<<30), ints(1<<30)), rowsOf(ints(4), ints(4))},
+		{"0>1+0 1>0+1 | 0>1+0 1>0+1", 2, rowsOf(ints(1, 2), ints(10, 20)), rowsOf(ints(1, 42), ints(12, 20))},
 		// A worker sends to itself.
-		{"0>0+0", 1, rowsOf(ints(3, most)), rowsOf(ints(6, most-1))},
-		{"0>0=0", 1, rowsOf(ints(3, most)), rowsOf(ints(3, most))},
-		{"0>0+0 0>1+0", 1, rowsOf(ints(3), ints(5)), rowsOf(ints(6), ints(8))},
-		{"1>1+1 0>1+0 | 1>1+1", 2, rowsOf(ints(1, 2), ints(10, 20)), rowsOf(ints(1, 2), ints(11, 80))},
-		{"0>0+0 | 0>0+0 | 0>0+0", 1, rowsOf(ints(1 << 30)), rowsOf(ints(4))},
+		{"0>0+0", 1, rowsOf(ints(3, most)), nil},
+		{"0>0=0", 1, rowsOf(ints(3, most)), nil},
+		{"0>0+0", 1, rowsOf(ints(1), ints(2)), nil},
+		{"0>0=0", 1, rowsOf(ints(1), ints(2)), nil},
+		{"0>0+0 0>1+0", 1, rowsOf(ints(3), ints(5)), nil},
+		{"0>1+0 | 1>1+1", 2, rowsOf(ints(1, 2), ints(10, 20)), nil},
+		{"1>1=63", 64, rowsOf(nil, nil), nil},
 		// Two chunks to one worker; one chunk in two rounds.
 		{"1>0+0 2>0+1", 2, rowsOf(ints(1, 2), ints(10, 20), ints(100, 200)), rowsOf(ints(11, 202), ints(10, 20), ints(100, 200))},
 		{"1>0+0 1>0=1", 2, rowsOf(ints(1, 2), ints(10, 20)), rowsOf(ints(11, 20), ints(10, 20))},
@@ -659,7 +725,7 @@ func wrongValues(n int) [][][]int {
 }
 
 func TestRunsOfWrongLists(t *testing.T) {
-	for _, rounds := range [][][]impl.Move{nil, {}, {{}}, roundsIn("0>0+0"), roundsIn("1>0+0 | 0>1=0")} {
+	for _, rounds := range [][][]impl.Move{nil, {}, {{}}, roundsIn("0>0+0"), roundsIn("0>1+0"), roundsIn("1>0+0 | 0>1=0")} {
 		for _, c := range ints(-1, 0, 1, 3, 64, 65) {
 			for _, values := range [][][]int{nil, {}} {
 				if len(checkRunMoves(t, rounds, c, values)) > 0 || len(checkRunFloats(t, rounds, c, values)) > 0 {
@@ -687,7 +753,7 @@ func TestRunsOfWrongLists(t *testing.T) {
 
 func TestRunsOfRoundsThatCanNotBe(t *testing.T) {
 	values := rowsOf(ints(1, 2), ints(3, 4), ints(5, 6))
-	for _, text := range []string{"3>0+0", "0>3+0", "0>1+2", "-1>0+0", "0>-1+0", "0>1+-1", "1>0+0 2>0+0", "1>0+0 2>0=0", "1>0+0 0>0+0", "0>1+0 | 1>2+0 1>2=0", "0>1+0 | 1>3+0"} {
+	for _, text := range []string{"3>0+0", "0>3+0", "0>1+2", "-1>0+0", "0>-1+0", "0>1+-1", "1>0+0 2>0+0", "1>0+0 2>0=0", "1>0+0 0>0+0", "0>1+0 | 1>2+0 1>2=0", "0>1+0 | 1>3+0", "0>0+0", "0>0=0", "2>2+1", "0>1+0 1>1=1", "0>1+0 | 2>2+0 | 1>0+0", "0>1+0 | 1>0=0 | 1>1=0"} {
 		if len(checkRunMoves(t, roundsIn(text), 2, values)) > 0 || len(checkRunFloats(t, roundsIn(text), 2, values)) > 0 {
 			t.Errorf("something comes of %s", text)
 		}
@@ -788,7 +854,7 @@ func TestRunMovesAtLimits(t *testing.T) {
 		for number := range testRounds {
 			round := fullRound(17, 1, number%3 > 0)[:16+min(1, number%3)]
 			for at := range round {
-				round[at].From, round[at].Chunk = source.Intn(17), source.Intn(c)
+				round[at].From, round[at].Chunk = otherThan(source, round[at].To, 17), source.Intn(c)
 			}
 			rounds = append(rounds, round)
 		}
@@ -831,9 +897,13 @@ func TestRunFloatsRows(t *testing.T) {
 		want   [][]int
 	}{
 		{"1>0+0", 1, rowsOf(ints(oneFloat), ints(oneFloat)), rowsOf(ints(twoFloat), ints(oneFloat))},
-		{"0>0+0", 1, rowsOf(ints(oneFloat)), rowsOf(ints(twoFloat))},
-		{"0>0=0", 1, rowsOf(ints(-5)), rowsOf(ints(-5))},
-		{"0>0+0", 1, rowsOf(ints(-5)), rowsOf(ints(impl.NaN))},
+		{"1>0+0 0>1+0", 1, rowsOf(ints(oneFloat), ints(oneFloat)), rowsOf(ints(twoFloat), ints(twoFloat))},
+		// A worker sends to itself.
+		{"0>0+0", 1, rowsOf(ints(oneFloat)), nil},
+		{"0>0=0", 1, rowsOf(ints(-5)), nil},
+		{"0>0+0", 1, rowsOf(ints(1), ints(2)), nil},
+		{"0>0=0", 1, rowsOf(ints(1), ints(2)), nil},
+		{"0>1+0 | 1>1=1", 2, rowsOf(ints(1), ints(2)), nil},
 		// The zeros.
 		{"1>0+0", 1, rowsOf(ints(0, minusZero, 0, minusZero), ints(0, minusZero, minusZero, 0)), rowsOf(ints(0, minusZero, 0, 0), ints(0, minusZero, minusZero, 0))},
 		{"1>0+0", 1, rowsOf(ints(oneFloat), ints(oneFloat|minusZero)), rowsOf(ints(0), ints(oneFloat|minusZero))},
@@ -1012,14 +1082,15 @@ func TestCompleteRows(t *testing.T) {
 	}{
 		{"", 1, 1, true}, {"", 1, 64, true}, {"| |", 1, 3, true}, {"", 2, 1, false}, {"", 0, 1, false}, {"", 1, 0, false}, {"", 65, 1, false}, {"", 1, 65, false}, {"", -1, -1, false},
 		{"0>1+0 1>0+0", 2, 1, true}, {"0>1+0 | 1>0=0", 2, 1, true}, {"0>1+0 | 1>0+0", 2, 1, false}, {"0>1+0", 2, 1, false}, {"0>1=0 1>0=0", 2, 1, false}, {"0>1=0", 2, 1, false}, {"1>0+0", 2, 1, false},
-		{"0>0=0", 1, 1, true}, {"0>0+0", 1, 1, false}, {"0>0+0 1>1=0", 2, 1, false}, {"0>1+0 1>0+0 | 0>0=0 1>1=0", 2, 1, true}, {"0>1+0 1>0+0 | 0>0+0", 2, 1, false}, {"0>0+0 | 0>1+0 1>0+0", 2, 1, false},
+		// A worker sends to itself: it changes nothing, but it can't be.
+		{"0>0=0", 1, 1, false}, {"0>0+0", 1, 1, false}, {"0>0=0", 1, 2, false}, {"0>0+1", 1, 2, false}, {"0>0=0 1>1=0", 2, 1, false}, {"0>1+0 1>0+0 | 0>0=0", 2, 1, false}, {"0>1+0 1>0+0 | 1>1=0", 2, 1, false}, {"0>0=0 | 0>1+0 1>0+0", 2, 1, false}, {"0>1+0 1>0+0 | 0>0+0", 2, 1, false}, {"0>0+0 | 0>1+0 1>0+0", 2, 1, false},
 		// What was there twice may be replaced.
-		{"0>0+0 0>1+0 | 1>0=0", 2, 1, true}, {"0>1+0 1>0+0 | 0>1+0 | 0>1=0", 2, 1, true}, {"0>1+0 1>0+0 | 0>1+0 1>0+0", 2, 1, false}, {"0>1+0 1>0+0 | 0>1+0 | 1>0=0", 2, 1, false},
+		{"0>1+0 1>0+0 | 1>0+0 1>2+0 | 2>0=0 2>1=0", 3, 1, true}, {"0>1+0 1>0+0 | 1>0+0 1>2+0 | 2>1=0", 3, 1, false}, {"0>1+0 1>0+0 | 0>1+0 | 0>1=0", 2, 1, true}, {"0>1+0 1>0+0 | 0>1+0 1>0+0", 2, 1, false}, {"0>1+0 1>0+0 | 0>1+0 | 1>0=0", 2, 1, false},
 		// Of more than one chunk each must be whole.
-		{"0>1+0 1>0+0", 2, 2, false}, {"0>1+1 1>0+1", 2, 2, false}, {"0>1+0 1>0+0 0>1+1 1>0+1", 2, 2, true}, {"0>1+0 1>0+0 | 0>1+1 | 1>0=1", 2, 2, true}, {"0>1+0 1>0+0 0>1+2 1>0+2", 2, 3, false}, {"0>0=0", 1, 2, true}, {"0>0+1", 1, 2, false}, {"0>0+1", 1, 3, false},
+		{"0>1+0 1>0+0", 2, 2, false}, {"0>1+1 1>0+1", 2, 2, false}, {"0>1+0 1>0+0 0>1+1 1>0+1", 2, 2, true}, {"0>1+0 1>0+0 | 0>1+1 | 1>0=1", 2, 2, true}, {"0>1+0 1>0+0 0>1+2 1>0+2", 2, 3, false},
 		{"0>1+0 1>2+0 2>0+0 | 0>1+0 1>2+0 2>0+0", 3, 1, false}, {"0>1=0 1>2=0 2>0=0", 3, 1, false}, {"1>0+0 | 2>0+0 | 0>1=0 0>2=0", 3, 1, true}, {"2>1+0 | 1>0+0 | 0>1=0 0>2=0", 3, 1, true}, {"2>1+0 1>0+0 | 0>1=0 0>2=0", 3, 1, false}, {"2>1+0 1>0+0 | 2>0+0 | 0>1=0 0>2=0", 3, 1, true},
 		// Two have the other's own twice, the one's own not at all.
-		{"1>0=0 0>1=0 | 0>0+0 1>1+0", 2, 1, false}, {"0>1+0 0>0=0 1>1+1", 2, 2, false},
+		{"1>0=0 | 1>0+0 0>1+0", 2, 1, false}, {"0>1=0 | 0>1+0 1>0+0", 2, 1, false}, {"1>0=0 0>1=0 | 1>0+0 0>1+0", 2, 1, true},
 		// Not MovesOk.
 		{"0>1+0 1>0+0 | 0>2=0", 2, 1, false}, {"0>1+0 1>0+0 | 0>1=0 1>1=0", 2, 1, false}, {"0>1+0 1>0+0 | 0>1=1", 2, 1, false},
 	} {
@@ -1032,13 +1103,12 @@ func TestCompleteRows(t *testing.T) {
 // However often something is carried, it never looks like once.
 func TestCompleteOfManyTimes(t *testing.T) {
 	for count := range testRounds + 2 {
-		double, both, grow := [][]impl.Move{}, [][]impl.Move{}, [][]impl.Move{}
+		both, grow := [][]impl.Move{}, [][]impl.Move{}
 		for range count {
-			double = append(double, []impl.Move{sendOf(0, 0, 0, true)})
 			both = append(both, []impl.Move{sendOf(0, 1, 0, true), sendOf(1, 0, 0, true)})
 			grow = append(grow, []impl.Move{sendOf(0, 1, 0, true)})
 		}
-		if checkComplete(t, double, 1, 1) != (count == 0) || checkComplete(t, both, 2, 1) != (count == 1) {
+		if checkComplete(t, both, 2, 1) != (count == 1) {
 			t.Errorf("Complete of %d times the double", count)
 		}
 		// So many times worker 0's own; one more round brings back one that is whole.
@@ -1048,25 +1118,25 @@ func TestCompleteOfManyTimes(t *testing.T) {
 	}
 	// All of it so often as a power of two, and once: in a word that runs over it looks like once.
 	for power := range 292 {
-		rounds := append(roundsIn("0>1+0 1>0+0"), slices.Repeat(roundsIn("1>1+0"), power)...)
-		rounds = append(rounds, roundsIn("0>1+0 | 1>0=0")...)
-		if checkComplete(t, rounds, 2, 1) {
+		rounds := append(roundsIn("1>0+0 | 2>0+0 | 0>1=0 0>2=0"), slices.Repeat(roundsIn("1>2+0 2>1+0"), power)...)
+		rounds = append(rounds, roundsIn("0>1+0 0>2+0")...)
+		if checkComplete(t, rounds, 3, 1) {
 			t.Errorf("Complete of 2^%d times and once", power)
 		}
-		if checkComplete(t, rounds[:1+power], 2, 1) != (power == 0) {
+		if checkComplete(t, rounds[:3+power], 3, 1) != (power == 0) {
 			t.Errorf("Complete of 2^%d times", power)
 		}
 	}
-	// 999, 1000, 1001 and 2000 times.
-	for _, times := range ints(2, 999, 1000, 1001, 2000) {
-		rounds := [][]impl.Move{}
-		for bit := 10; bit >= 0; bit-- {
-			rounds = append(rounds, []impl.Move{sendOf(1, 1, 0, true)})
+	// All of it so many times, in a count that goes round at some number once again.
+	for _, times := range append(firstNumbers(2100), 1<<16+1, 1<<31+1, 1<<32+1, 1<<62+1) {
+		rounds := roundsIn("1>0+0 | 2>0+0 | 0>1=0 0>2=0")
+		for bit := bits.Len(uint(times)) - 2; bit >= 0; bit-- {
+			rounds = append(rounds, roundsIn("1>2+0 2>1+0")...)
 			if times>>bit&1 == 1 {
-				rounds = append(rounds, []impl.Move{sendOf(0, 1, 0, true)})
+				rounds = append(rounds, roundsIn("0>1+0 0>2+0")...)
 			}
 		}
-		if checkComplete(t, rounds, 2, 1) || checkComplete(t, append(rounds, []impl.Move{sendOf(1, 0, 0, false)}), 2, 1) {
+		if times > 0 && checkComplete(t, rounds, 3, 1) != (times == 1) {
 			t.Errorf("Complete of %d times", times)
 		}
 	}
@@ -1217,7 +1287,7 @@ func TestOrderRows(t *testing.T) {
 		want   string
 	}{
 		{"", 1, 1, 0, 0, "0"}, {"", 64, 1, 63, 0, "63"}, {"| |", 12, 3, 10, 2, "10"}, {"1>0+0 | 0>1=0", 2, 1, 0, 0, "(0+1)"}, {"1>0+0 | 0>1=0", 2, 1, 1, 0, "(0+1)"}, {"0>1+0", 2, 1, 1, 0, "(1+0)"}, {"0>1+0", 2, 1, 0, 0, "0"},
-		{"1>0=0", 2, 1, 0, 0, "1"}, {"0>0=0", 2, 1, 0, 0, "0"}, {"0>0+0", 2, 1, 0, 0, "(0+0)"}, {"1>1+0 | 1>1+0", 2, 1, 1, 0, "((1+1)+(1+1))"}, {"11>10+0", 12, 1, 10, 0, "(10+11)"},
+		{"1>0=0", 2, 1, 0, 0, "1"}, {"1>0=0 | 1>0+0", 2, 1, 0, 0, "(1+1)"}, {"0>1+0 1>0+0 | 0>1+0", 2, 1, 1, 0, "((1+0)+(0+1))"}, {"11>10+0", 12, 1, 10, 0, "(10+11)"},
 		{"1>0+0 | 2>0+0", 3, 1, 0, 0, "((0+1)+2)"}, {"2>1+0 | 1>0+0", 3, 1, 0, 0, "(0+(1+2))"}, {"2>1+0 1>0+0", 3, 1, 0, 0, "(0+1)"}, {"1>0+0 0>1+0", 2, 1, 0, 0, "(0+1)"}, {"1>0+0 0>1+0", 2, 1, 1, 0, "(1+0)"}, {"1>0=0 0>1=0", 2, 1, 1, 0, "0"},
 		{"1>0+0 3>2+0 | 2>0+0", 4, 1, 0, 0, "((0+1)+(2+3))"}, {"1>0+0 3>2+0 | 2>0+0 | 0>2=0 | 0>1=0 2>3=0", 4, 1, 3, 0, "((0+1)+(2+3))"},
 		{"1>0+1", 2, 2, 0, 0, "0"}, {"1>0+1", 2, 2, 0, 1, "(0+1)"}, {"1>0+1 0>1+0", 2, 2, 1, 0, "(1+0)"}, {"1>0+1 0>1+0", 2, 2, 1, 1, "1"},
@@ -1225,6 +1295,8 @@ func TestOrderRows(t *testing.T) {
 		// What is not as it should be.
 		{"", 1, 1, -1, 0, ""}, {"", 1, 1, 1, 0, ""}, {"", 1, 1, 0, -1, ""}, {"", 1, 1, 0, 1, ""}, {"", 3, 5, 3, 0, ""}, {"", 3, 5, 2, 4, "2"}, {"", 3, 5, 4, 2, ""}, {"", 3, 5, 2, 5, ""}, {"", 3, 5, math.MinInt, 0, ""}, {"", 3, 5, math.MaxInt, 0, ""}, {"", 3, 5, 0, math.MinInt, ""}, {"", 3, 5, 0, math.MaxInt, ""},
 		{"", 0, 1, 0, 0, ""}, {"", 1, 0, 0, 0, ""}, {"", 65, 1, 0, 0, ""}, {"", 1, 65, 0, 0, ""}, {"1>0+0 | 2>0+0", 2, 1, 0, 0, ""}, {"1>0+0 1>0=0", 2, 1, 0, 0, ""}, {"0>1+0 1>1+0", 2, 1, 0, 0, ""}, {"0>1+1", 2, 1, 0, 0, ""},
+		// A worker sends to itself.
+		{"0>0=0", 2, 1, 0, 0, ""}, {"0>0+0", 2, 1, 0, 0, ""}, {"0>0=0", 1, 1, 0, 0, ""}, {"0>0+0", 1, 1, 0, 0, ""}, {"1>1=0", 3, 2, 0, 1, ""}, {"0>1+0 | 2>2=1", 3, 2, 1, 0, ""}, {"1>1+0 | 0>1+0", 2, 1, 1, 0, ""},
 	} {
 		if got := checkOrder(t, roundsIn(row.rounds), row.n, row.c, row.worker, row.chunk); got != row.want {
 			t.Errorf("Order of %s for %d workers and %d chunks at %d, %d is %s, not %s", row.rounds, row.n, row.c, row.worker, row.chunk, got, row.want)
@@ -1273,12 +1345,12 @@ func longRounds(bytes int) [][]impl.Move {
 		rounds = append(rounds, []impl.Move{sendOf(10+other, 0, 0, true)})
 	}
 	for ones > 0 {
-		round := []impl.Move{sendOf(1, 1, 0, true)}
+		round := roundsIn("1>2+0 2>1+0")[0]
 		if ones%2 == 1 {
 			round = append(round, sendOf(1, 0, 0, true))
 		}
 		if ones == 1 {
-			round = round[1:]
+			round = round[2:]
 		}
 		ones /= 2
 		rounds = append(rounds, round)
@@ -1315,14 +1387,14 @@ func TestOrderOfLongTexts(t *testing.T) {
 			}
 		}
 		// Then it goes: each worker's own is that of another one, or a short one takes its place.
-		for _, behind := range []string{"2>0=0", "2>0=0 3>1=0", "2>0=0 2>1=0 | 0>2+0 | |"} {
+		for _, behind := range []string{"5>0=0", "5>0=0 4>1=0", "5>0=0 5>1=0 | 0>5+0 | |"} {
 			got := checkOrder(t, append(longRounds(bytes), roundsIn(behind)...), 20, 1, 0, 0)
-			if bytes > testOrder && got != "" || bytes <= testOrder && got != "2" {
+			if bytes > testOrder && got != "" || bytes <= testOrder && got != "5" {
 				t.Errorf("with %d bytes on the way Order is %s", bytes, got)
 			}
 		}
 		// In one round it is sent on and replaced; it is too long for whom it comes to.
-		for _, behind := range []string{"0>2=0 2>0=0", "0>2=0", "0>2+0", "2>0+0", "0>0+0"} {
+		for _, behind := range []string{"0>5=0 5>0=0", "0>5=0", "0>5+0", "5>0+0", "0>5+0 5>0+0"} {
 			checkOrder(t, append(longRounds(bytes), roundsIn(behind)...), 20, 1, 3, 0)
 		}
 	}
@@ -1330,7 +1402,7 @@ func TestOrderOfLongTexts(t *testing.T) {
 	for count := range testRounds + 2 {
 		double := [][]impl.Move{}
 		for range count {
-			double = append(double, []impl.Move{sendOf(0, 0, 0, true), sendOf(1, 1, 0, true)})
+			double = append(double, []impl.Move{sendOf(0, 1, 0, true), sendOf(1, 0, 0, true)})
 		}
 		if got := checkOrder(t, double, 3, 1, 2, 0); (got == "2") != (count <= 9) {
 			t.Errorf("behind %d rounds Order is %s", count, got)
@@ -1499,8 +1571,9 @@ func TestFinishRows(t *testing.T) {
 		{"1>0+0 2>0+1 3>0+2", 5, 3, ints(1, 5, 9, 2, 1000), ints(9, 5, 9, 2, 0)}, {"0>1+0 | 2>3+0", 4, 1, ints(7, 1000, 5, 1000), ints(7, 7, 5, 5)}, {"0>1+0 | 2>3+0 | 3>1+0", 4, 1, ints(7, 1000, 5, 4), ints(7, 9, 5, 9)}, {"0>1+0 0>1+1 | 2>1+0", 3, 2, ints(7, 1, 3), ints(14, 14, 3)},
 		// A worker begins when it is free itself, not when the round does.
 		{"0>1+0 | 2>0+0 | 0>2+0", 3, 1, ints(10, 1, 1), ints(20, 10, 20)}, {"0>1+0 | 2>3+0 2>1+0", 4, 1, ints(10, 1, 1, 1), ints(10, 10, 2, 1)},
+		{"0>1+0 | 0>1=0 | 0>1+0", 2, 1, ints(1000, 1), ints(3000, 3000)}, {"0>1+0 0>1+1 1>0+1", 2, 2, ints(4, 9), ints(9, 9)},
 		// A worker sends to itself.
-		{"0>0+0", 1, 1, ints(4), ints(4)}, {"0>0=0 0>1+0", 2, 1, ints(4, 9), ints(8, 8)}, {"0>1+0 0>0=0", 2, 1, ints(4, 9), ints(8, 4)}, {"0>0+0 1>0+1", 2, 2, ints(4, 9), ints(9, 9)}, {"0>0+0 | 0>0+0 | 0>1=0", 2, 1, ints(1000, 1), ints(3000, 3000)},
+		{"0>0+0", 1, 1, ints(4), nil}, {"0>0=0", 1, 1, ints(4), nil}, {"0>0+0", 2, 1, ints(3, 4), nil}, {"0>0=0", 2, 1, ints(3, 4), nil}, {"0>0=0 0>1+0", 2, 1, ints(4, 9), nil}, {"0>1+0 0>0=0", 2, 1, ints(4, 9), nil}, {"0>0+0 1>0+1", 2, 2, ints(4, 9), nil}, {"0>1+0 | 1>1+1 | 0>1=0", 2, 2, ints(1000, 1), nil},
 		// A ring, a tree.
 		{"0>1+0 1>2+1 2>0+2 | 0>1+2 1>2+0 2>0+1 | 0>1=1 1>2=2 2>0=0 | 0>1=0 1>2=1 2>0=2", 3, 3, ints(1, 1, 1), ints(4, 4, 4)}, {"0>1+0 1>2+1 2>0+2 | 0>1+2 1>2+0 2>0+1 | 0>1=1 1>2=2 2>0=0 | 0>1=0 1>2=1 2>0=2", 3, 3, ints(1, 5, 1), ints(16, 20, 20)},
 		{"1>0+0 | 2>0+0 | 0>2=0 | 0>1=0", 3, 1, ints(1, 1, 1), ints(3, 3, 2)}, {"1>0+0 | 2>0+0 | 0>2=0 | 0>1=0", 3, 1, ints(2, 3, 50), ints(54, 54, 52)},
@@ -1602,11 +1675,11 @@ func TestFinishOfRing(t *testing.T) {
 	if got := checkFinish(t, slices.Repeat([][]impl.Move{fullRound(16, 1, true)}, 300), 16, 1, slices.Repeat(ints(1000), 16)); !slices.Equal(got, slices.Repeat(ints(300000), 16)) {
 		t.Errorf("Finish of many rounds is %v", got)
 	}
-	most := [][]impl.Move{slices.Repeat([]impl.Move{{}}, 64)}
+	most := [][]impl.Move{slices.Repeat([]impl.Move{{To: 1}}, 64)}
 	for chunk := range most[0] {
 		most[0][chunk].Chunk = chunk
 	}
-	if got := checkFinish(t, slices.Repeat(most, 78), 2, 64, ints(1000, 1)); !slices.Equal(got, ints(78*64*1000, 0)) {
+	if got := checkFinish(t, slices.Repeat(most, 78), 2, 64, ints(1000, 1)); !slices.Equal(got, ints(78*64*1000, 78*64*1000)) {
 		t.Errorf("Finish of a worker that sends nearly all that can be is %v", got)
 	}
 }
@@ -1725,7 +1798,7 @@ func TestNetListsAreLeftAlone(t *testing.T) {
 	}
 	// One list may stand for several workers, and nobody's list at the end is another one's.
 	same := withRooms(ints(1, 2, 3, 4, 5))
-	for _, text := range []string{"", "0>1=0 0>2=0", "0>1=0 0>2=1 0>1=1 0>2=0", "0>1+0 1>2+0 | 0>2=1 | 2>0=0", "0>0=0 1>1+1"} {
+	for _, text := range []string{"", "0>1=0 0>2=0", "0>1=0 0>2=1 0>1=1 0>2=0", "0>1+0 1>2+0 | 0>2=1 | 2>0=0", "1>0=0 0>1+1", "0>0=0 1>1+1"} {
 		values := rowsOf(same, same, same)
 		checkRunMoves(t, roundsIn(text), 2, values)
 		checkLeftAlone(t, "RunMoves", func() [][]int { return impl.RunMoves(roundsIn(text), 2, values) }, same)
